@@ -1,0 +1,1 @@
+"""Cosetyard: rooms filled by going round rules of words."""
