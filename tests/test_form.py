@@ -89,6 +89,7 @@ class Code(unittest.TestCase):
                 self.assertEqual(node.finalbody, [], place)
             if isinstance(node, ast.Assign):
                 self.assertEqual(len(node.targets), 1, place)
+                self.assertIsInstance(node.targets[0], (ast.Name, ast.Attribute, ast.Subscript), place)
             if isinstance(node, ast.ListComp):
                 self.assertEqual(len(node.generators), 1, place)
                 self.assertLessEqual(len(node.generators[0].ifs), 1, place)
@@ -122,6 +123,20 @@ class Code(unittest.TestCase):
         for place, node in nodes_of(ast.Call):
             if isinstance(node.func, ast.Attribute):
                 self.assertIn(node.func.attr, METHODS | own, place)
+
+    def test_classes(self):
+        methods = set()
+        values = set()
+        for place, node in nodes_of(ast.ClassDef):
+            self.assertLessEqual(len(node.bases), 1, place)
+            inside = [part.name for part in node.body if isinstance(part, ast.FunctionDef)]
+            self.assertEqual(len(inside), len(set(inside)), place)
+            self.assertTrue(all(isinstance(part, (ast.FunctionDef, ast.Pass)) for part in node.body), place)
+            methods.update(inside)
+        for place, node in nodes_of(ast.Attribute):
+            if isinstance(node.ctx, ast.Store):
+                values.add(node.attr)
+        self.assertEqual(methods & values, set())
 
     def test_is_stands_beside_none_and_truths(self):
         for place, node in nodes_of(ast.Compare):

@@ -1,0 +1,244 @@
+"""What several tests share: a walker of papers and a plain reckoning of rooms, both straight from the document."""
+
+from cosetyard.rooms import Rooms
+
+
+def steps_in_order(letters):
+    return [step for letter in range(1, letters + 1) for step in (letter, -letter)]
+
+
+def known_ways(rooms):
+    """All that a Rooms tells of its ways: {(room, step): other}."""
+    told = {}
+    for room in rooms.standing():
+        for step in steps_in_order(rooms.letters):
+            other = rooms.by(room, step)
+            if other is not None:
+                told[room, step] = other
+    return told
+
+
+def state(rooms):
+    return (rooms.letters, rooms.made, rooms.standing(), known_ways(rooms),
+            [rooms.elder(room) for room in range(rooms.made)], rooms.paper())
+
+
+class Chance:
+    """Numbers without order, but the same at each run and under each Python."""
+
+    def __init__(self, seed):
+        self.seed = seed * 2 + 1
+
+    def below(self, bound):
+        self.seed = (self.seed * 6364136223846793005 + 1442695040888963407) % (1 << 64)
+        return (self.seed >> 33) % bound
+
+    def one_of(self, things):
+        return things[self.below(len(things))]
+
+
+class Walker:
+    """Walks a paper row by row with nothing but point 12 in hand. What a row of the asker's makes known is told it by
+    `asked`, a list of (row, way) in the order of the laying."""
+
+    def __init__(self, case, letters, rules=(), part=(), asked=()):
+        self.case = case
+        self.steps = steps_in_order(letters)
+        self.words = list(rules) + list(part)
+        self.rules = len(rules)
+        self.asked = list(asked)
+        self.made = 1
+        self.left = {0}
+        self.known = {}
+        self.clashes = set()
+        self.called = {0: 0}
+        self.counts = {"new": 0, "rule": 0, "meet": 0, "asked": 0}
+
+    def walk(self, paper):
+        for place, row in enumerate(paper):
+            self.step_on(row, f"row {place}: {row}"[:400])
+        self.case.assertEqual(self.clashes, set(), "a row meet is left out at the end")
+        self.case.assertEqual(self.asked, [], "rows of the asker's are left out")
+        return self
+
+    def step_on(self, row, told):
+        self.case.assertIs(type(row), tuple, told)
+        if row[:1] == ("meet",) and self.clashes:
+            self.meet(row, told)
+            return
+        self.case.assertEqual(self.clashes, set(), f"a row meet is left out ahead of {told}")
+        if self.asked and row == self.asked[0][0]:
+            self.counts["asked"] += 1
+            self.learn(*self.asked.pop(0)[1])
+        elif row[0] == "new":
+            self.new(row, told)
+        else:
+            self.case.assertEqual(row[0], "rule", told)
+            self.rule(row, told)
+
+    def new(self, row, told):
+        kind, room, step, number = row
+        self.case.assertIn(room, self.left, told)
+        self.case.assertIn(step, self.steps, told)
+        self.case.assertFalse(self.known.get((room, step)), told)
+        self.case.assertEqual(number, self.made, told)
+        self.made += 1
+        self.left.add(number)
+        self.called[number] = number
+        self.counts[kind] += 1
+        self.learn(room, step, number)
+
+    def rule(self, row, told):
+        kind, which, path, at = row
+        self.case.assertIn(which, range(len(self.words)), told)
+        word = self.words[which]
+        self.case.assertIn(at, range(len(word)), told)
+        self.case.assertIs(type(path), tuple, told)
+        self.case.assertEqual(len(path), len(word) + 1, told)
+        self.case.assertLessEqual(set(path), self.left, told)
+        self.case.assertEqual(path[0], path[-1], told)
+        if which >= self.rules:
+            self.case.assertEqual(path[0], 0, told)
+        for place, step in enumerate(word):
+            if place != at:
+                self.case.assertIn(path[place + 1], self.known.get((path[place], step), ()), told)
+        self.counts[kind] += 1
+        self.learn(path[at], word[at], path[at + 1])
+
+    def meet(self, row, told):
+        kind, room, step, less, more = row
+        self.case.assertLess(less, more, told)
+        self.case.assertIn(less, self.known.get((room, step), ()), told)
+        self.case.assertIn(more, self.known.get((room, step), ()), told)
+        ways = [(a, s, b) for (a, s), others in self.known.items() for b in others]
+        self.known = {}
+        self.clashes = set()
+        for a, s, b in ways:
+            self.learn(less if a == more else a, s, less if b == more else b)
+        self.left.discard(more)
+        for number, name in self.called.items():
+            if name == more:
+                self.called[number] = less
+        self.counts[kind] += 1
+
+    def learn(self, room, step, other):
+        for a, s, b in [(room, step, other), (other, -step, room)]:
+            others = self.known.setdefault((a, s), set())
+            others.add(b)
+            if len(others) > 1:
+                self.clashes.add((a, s))
+
+    def assert_same(self, rooms):
+        self.case.assertEqual(rooms.made, self.made)
+        self.case.assertEqual(rooms.standing(), sorted(self.left))
+        self.case.assertEqual([rooms.elder(room) for room in range(rooms.made)],
+                              [self.called[room] for room in range(self.made)])
+        self.case.assertEqual(known_ways(rooms), {key: min(others) for key, others in self.known.items()})
+
+
+class Plain:
+    """All ways ever made known, and what they come to, reckoned anew from the beginning each time."""
+
+    def __init__(self, letters):
+        self.letters = letters
+        self.made = 1
+        self.ways = []
+        self.reckon()
+
+    def make(self, room, step):
+        self.made += 1
+        self.lay(room, step, self.made - 1)
+
+    def lay(self, room, step, other):
+        self.ways.extend([(room, step, other), (other, -step, room)])
+        self.reckon()
+
+    def reckon(self):
+        called = list(range(self.made))
+        again = True
+        while again:
+            again = False
+            known = {}
+            for room, step, other in self.ways:
+                less, more = sorted([called[other], known.setdefault((called[room], step), called[other])])
+                if less < more:
+                    called = [less if name == more else name for name in called]
+                    again = True
+                    break
+        self.called = called
+        self.known = known
+        self.standing = sorted(set(called))
+
+    def gone_to(self, room, word):
+        for step in word:
+            room = self.known.get((room, step))
+            if room is None:
+                return None
+        return room
+
+    def follows(self, rules, part):
+        """All ways that follow, by the words of point 14."""
+        found = []
+        for word, rooms in [(rule, self.standing) for rule in rules] + [(word, [0]) for word in part]:
+            for c in rooms:
+                for at, step in enumerate(word):
+                    a = self.gone_to(c, word[:at])
+                    if a is not None:
+                        found.extend((a, step, b) for b in self.standing if self.gone_to(b, word[at + 1:]) == c)
+        return found
+
+    def close(self, rules, part):
+        while True:
+            ways = [way for way in self.follows(rules, part) if self.known.get(way[:2]) != way[2]]
+            if not ways:
+                return self
+            self.lay(*ways[0])
+
+    def assert_same(self, case, rooms):
+        case.assertEqual(rooms.made, self.made)
+        case.assertEqual(rooms.standing(), self.standing)
+        case.assertEqual([rooms.elder(room) for room in range(rooms.made)], self.called)
+        case.assertEqual(known_ways(rooms), self.known)
+
+
+class Built:
+    """A Rooms and a Plain to which the same is done."""
+
+    def __init__(self, letters):
+        self.rooms = Rooms(letters)
+        self.plain = Plain(letters)
+        self.asked = []
+
+    def make(self, room, step):
+        number = self.rooms.make(room, step)
+        self.plain.make(room, step)
+        return number
+
+    def lay(self, room, step, other):
+        row = ("asked", len(self.asked), (room, step, other))
+        self.asked.append((row, (room, step, other)))
+        self.plain.lay(room, step, other)
+        return self.rooms.lay(room, step, other, row)
+
+    def gaps(self):
+        return [(room, step) for room in self.plain.standing for step in steps_in_order(self.plain.letters)
+                if (room, step) not in self.plain.known]
+
+    def grow(self, chance, deeds, ways_laid):
+        """So many deeds, of which some in a hundred lay a way and all others make a room."""
+        for deed in range(deeds):
+            gaps = self.gaps()
+            if gaps and chance.below(100) >= ways_laid:
+                self.make(*chance.one_of(gaps))
+            else:
+                step = chance.one_of(steps_in_order(self.plain.letters))
+                self.lay(chance.one_of(self.plain.standing), step, chance.one_of(self.plain.standing))
+        return self
+
+
+def long_row(many, letters=1):
+    """So many rooms, one behind the other by the letter 1."""
+    rooms = Rooms(letters)
+    for room in range(many - 1):
+        rooms.make(room, 1)
+    return rooms
