@@ -20,6 +20,14 @@ def walked(rooms, room, word):
     return path
 
 
+# From a rule that stands there once more nothing more follows, so the first of its places is enough.
+def first_places(rules):
+    places = {}
+    for which, rule in enumerate(rules):
+        places.setdefault(rule, which)
+    return places
+
+
 # A word gone round from a room, from its beginning and from its end, as far as known ways lead. Between front and rear
 # lie the steps from the place first to the place last; when these are one place, its step leads from front to rear.
 class Going:
@@ -60,16 +68,20 @@ class Going:
 class Closing:
     def __init__(self, rooms, rules, part):
         self.rooms = rooms
+        self.rules = first_places(rules)
         self.goings = []
         self.agenda = []
         # By room, then by step: a dict with the numbers of the goings that wait at that gap.
         self.waiting = {}
         self.heard = len(rooms.went)
         for room in rooms.standing():
-            for which, rule in enumerate(rules):
-                self.begin(which, rule, room)
+            self.begin_rules(room)
         for which, word in enumerate(part, start=len(rules)):
             self.begin(which, word, 0)
+
+    def begin_rules(self, room):
+        for rule, which in self.rules.items():
+            self.begin(which, rule, room)
 
     def begin(self, which, word, room):
         if len(word) > 0:
@@ -79,6 +91,11 @@ class Closing:
     def settle(self):
         while self.agenda:
             self.go_on(self.agenda.pop())
+
+    def make(self, room, step):
+        self.begin_rules(self.rooms.make(room, step))
+        self.wake(room, step)
+        self.settle()
 
     def go_on(self, number):
         going = self.goings[number]

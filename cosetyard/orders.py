@@ -1,27 +1,24 @@
 """The orders, by each of which another gap is the first."""
 
 from cosetyard.errors import NoOrder
-from cosetyard.words import steps_of
+from cosetyard.tables import place_of
 
 
 class Order:
     def gap(self, rooms):
-        return first_by_rooms(rooms, with_gaps(rooms))
+        return first_of(rooms, rooms.standing())
 
 
 class ByLetters(Order):
     def gap(self, rooms):
-        left = with_gaps(rooms)
-        for step in steps_of(rooms.letters):
-            for room in left:
-                if rooms.by(room, step) is None:
-                    return (room, step)
-        return None
+        gaps = [(room, rooms.first_gap(room)) for room in rooms.standing() if rooms.first_gap(room) is not None]
+        # Standing rooms come least first, and of gaps by the same step the first one is taken.
+        return min(gaps, key=lambda gap: place_of(gap[1]), default=None)
 
 
 class Newest(Order):
     def gap(self, rooms):
-        return first_by_rooms(rooms, list(reversed(with_gaps(rooms))))
+        return first_of(rooms, list(reversed(rooms.standing())))
 
 
 def order_by(name):
@@ -34,13 +31,9 @@ def order_by(name):
     raise NoOrder(f"there is no order {name!r}")
 
 
-def with_gaps(rooms):
-    return [room for room in rooms.standing() if not rooms.full(room)]
-
-
-def first_by_rooms(rooms, left):
-    for room in left:
-        for step in steps_of(rooms.letters):
-            if rooms.by(room, step) is None:
-                return (room, step)
+def first_of(rooms, some):
+    for room in some:
+        step = rooms.first_gap(room)
+        if step is not None:
+            return (room, step)
     return None

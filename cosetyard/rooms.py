@@ -1,5 +1,7 @@
 """Rooms and the ways known between them, and the paper on which all that is done to them is written."""
 
+from cosetyard.words import steps_of
+
 
 class Rooms:
     def __init__(self, letters):
@@ -9,6 +11,9 @@ class Rooms:
         # For each room ever made: its known ways, a dict of the rooms by their steps. A way is kept together with its
         # back or not at all, so the ways of a room tell all those that lead to it too.
         self.ways = [{}]
+        # For each room ever made: a dict of the steps by which no way is known from it, in the order of steps. A way of
+        # a standing room may come to lead to another one, but it isn't lost, so no step comes back here.
+        self.gaps = [all_gaps(letters)]
         self.elders = [0]
         # For each standing room the numbers that are called by it.
         self.called = [[0]]
@@ -20,6 +25,7 @@ class Rooms:
         self.made = number + 1
         self.rows.append(("new", room, step, number))
         self.ways.append({})
+        self.gaps.append(all_gaps(self.letters))
         self.elders.append(number)
         self.called.append([number])
         self.keep(room, step, number)
@@ -44,12 +50,16 @@ class Rooms:
     def paper(self):
         return [own(row) for row in self.rows]
 
-    def full(self, room):
-        return len(self.ways[room]) == 2 * self.letters
+    def first_gap(self, room):
+        for step in self.gaps[room]:
+            return step
+        return None
 
     def keep(self, room, step, other):
         self.ways[room][step] = other
         self.ways[other][-step] = room
+        self.gaps[room].pop(step, None)
+        self.gaps[other].pop(-step, None)
 
     def take_in(self, way, pending):
         # Since the way was put off, its rooms may have gone.
@@ -84,6 +94,10 @@ class Rooms:
             if other != room:
                 self.ways[other].pop(-step)
             pending.append((room, step, other))
+
+
+def all_gaps(letters):
+    return dict([(step, True) for step in steps_of(letters)])
 
 
 # A row of the asker's may hold lists or dicts, and what the asker does to these must not reach the paper.

@@ -23,6 +23,19 @@ def state(rooms):
             [rooms.elder(room) for room in range(rooms.made)], rooms.paper())
 
 
+KEYS = {"rooms": lambda gap: gap, "letters": lambda gap: gap[::-1], "newest": lambda gap: (-gap[0], gap[1])}
+
+
+def first_gap(order, letters, standing, known):
+    """By the words of point 16, out of all gaps; the ways known are the keys of `known`."""
+    steps = steps_in_order(letters)
+    gaps = [(room, place) for room in standing for place, step in enumerate(steps) if (room, step) not in known]
+    if not gaps:
+        return None
+    room, place = min(gaps, key=KEYS[order])
+    return (room, steps[place])
+
+
 class Chance:
     """Numbers without order, but the same at each run and under each Python."""
 
@@ -35,6 +48,10 @@ class Chance:
 
     def one_of(self, things):
         return things[self.below(len(things))]
+
+
+def some_word(chance, letters, most):
+    return tuple(chance.one_of(steps_in_order(letters)) for place in range(chance.below(most + 1)))
 
 
 class Walker:
@@ -242,3 +259,43 @@ def long_row(many, letters=1):
     for room in range(many - 1):
         rooms.make(room, 1)
     return rooms
+
+
+def ring(size):
+    return [(1,) * size]
+
+
+def mirrors(size):
+    """The turns of a ring and its mirrors: two times as many as the ring has rooms."""
+    return [(1,) * size, (2, 2), (1, 2, 1, 2)]
+
+
+def rings_beside(one, other):
+    return [(1,) * one, (2,) * other, (1, 2, -1, -2)]
+
+
+# The turnings of three points and of four, by changes of neighbours, and of four by a turn of all and a change of two.
+THREE_POINTS = [(1, 1), (2, 2), (1, 2) * 3]
+FOUR_POINTS = [(1, 1), (2, 2), (3, 3), (1, 2) * 3, (2, 3) * 3, (1, 3) * 2]
+FOUR_BY_TURN = [(1,) * 4, (2, 2), (1, 2) * 3]
+# Those of five points that are made of an even number of changes.
+FIVE_EVEN = [(1, 1), (2,) * 3, (1, 2) * 5]
+EIGHT_ODD = [(1,) * 4, (1, 1, -2, -2), (1, 2, 1, -2)]
+
+# Each with its letters, rules, part and the number of its rooms, known without any filling.
+GROUPS = [
+    (1, ring(1), [], 1), (1, ring(2), [], 2), (1, ring(7), [], 7), (1, ring(12), [], 12), (1, [(-1,) * 5], [], 5),
+    (1, ring(12), [(1,) * 8], 4), (1, ring(12), [(1,) * 5], 1), (1, ring(12), [(1,) * 12], 12),
+    (1, [(1,) * 12, (1,) * 18], [], 6), (1, [(1,) * 12, (1,) * 18], [(1, 1)], 2), (1, [(1, 1), (1, 1, 1)], [], 1),
+    (2, mirrors(3), [], 6), (2, mirrors(4), [], 8), (2, mirrors(9), [], 18), (2, mirrors(9), [(2,)], 9),
+    (2, mirrors(9), [(1,)], 2), (2, mirrors(9), [(1, 2)], 9), (2, mirrors(9), [(1,) * 3, (2,)], 3),
+    (2, rings_beside(3, 4), [], 12), (2, rings_beside(3, 4), [(1,)], 4), (2, rings_beside(3, 4), [(1, 2)], 1),
+    (2, rings_beside(2, 4), [(1, 2)], 2), (2, rings_beside(5, 5), [], 25), (2, rings_beside(1, 6), [], 6),
+    (2, THREE_POINTS, [], 6), (2, THREE_POINTS, [(1,)], 3), (2, THREE_POINTS, [(1, 2)], 2),
+    (3, FOUR_POINTS, [], 24), (3, FOUR_POINTS, [(1,), (2,)], 4), (3, FOUR_POINTS, [(1,), (3,)], 6),
+    (2, FOUR_BY_TURN, [], 24), (2, FOUR_BY_TURN, [(1,)], 6), (2, FOUR_BY_TURN, [(2,)], 12),
+    (2, FIVE_EVEN, [], 60), (2, FIVE_EVEN, [(1, 2)], 12), (2, FIVE_EVEN, [(2,)], 20), (2, EIGHT_ODD, [], 8),
+    (2, [(1,), (2,)], [], 1), (3, [(1,), (2,), (3,)], [], 1), (2, [(1, 2), (1,)], [], 1),
+    (2, FIVE_EVEN, [(1,), (2,)], 1), (1, [], [(1,)], 1), (2, [], [(1,), (2,)], 1), (1, [], [(1, 1, 1)], 3),
+    (2, [], [(1, 1), (2,), (1, 2, -1)], 2), (2, [(), (1, 1), (), (2,), ()], [(), ()], 2),
+]

@@ -3,7 +3,7 @@ import unittest
 
 from cosetyard.closing import close, gone
 from cosetyard.rooms import Rooms
-from helper import Built, Chance, Walker, known_ways, long_row, state, steps_in_order
+from helper import Built, Chance, Walker, known_ways, long_row, some_word, state, steps_in_order
 
 
 def star(letters):
@@ -12,10 +12,6 @@ def star(letters):
     for step in steps_in_order(letters):
         built.make(0, step)
     return built
-
-
-def some_word(chance, letters, most):
-    return tuple(chance.one_of(steps_in_order(letters)) for place in range(chance.below(most + 1)))
 
 
 def grown(seed):

@@ -118,6 +118,25 @@ class Code(unittest.TestCase):
         for place, node in nodes_of(ast.FunctionDef):
             self.assertTrue(node.name in DUNDERS or re.match("[A-Za-z]", node.name), place)
 
+    def test_locals_are_called_unlike_imports_and_classes(self):
+        for name, tree in trees():
+            taken = {alias.name for node in ast.walk(tree) if isinstance(node, ast.ImportFrom) for alias in node.names}
+            taken.update(node.name for node in ast.walk(tree) if isinstance(node, ast.ClassDef))
+            given = {node.id for node in ast.walk(tree) if isinstance(node, ast.Name) and isinstance(node.ctx, ast.Store)}
+            given.update(node.arg for node in ast.walk(tree) if isinstance(node, ast.arg))
+            self.assertEqual(given & taken, set(), name)
+
+    def test_texts_with_names_in_them(self):
+        for place, node in nodes_of(ast.FormattedValue):
+            self.assertIsInstance(node.value, ast.Name, place)
+            self.assertIsNone(node.format_spec, place)
+            self.assertIn(node.conversion, [-1, ord("r")], place)
+
+    def test_no_power_but_a_written_one(self):
+        for place, node in nodes_of(ast.BinOp):
+            if isinstance(node.op, ast.Pow):
+                self.assertIsInstance(node.right, ast.Constant, place)
+
     def test_methods(self):
         own = {node.name for place, node in nodes_of(ast.FunctionDef)}
         for place, node in nodes_of(ast.Call):

@@ -12,7 +12,14 @@ FUNCTIONS = {
     "closing": {"gone": ["rooms", "room", "word"], "close": ["rooms", "rules", "part"]},
     "orders": {"order_by": ["name"]},
     "tables": {"numbered": ["rooms"], "led": ["table", "room", "word"]},
+    "filling": {"fill": ["letters", "rules", "part", "limit", "order"]},
+    "judge": {"judged": ["letters", "rules", "part", "paper"]},
+    "turnings": {"turning": ["table", "word"], "rings": ["turned"], "times": ["turned"],
+                 "parted": ["table", "one", "other"]},
 }
+
+# Arguments that may be left out, and what they are then; all others must be there.
+DEFAULTS = {"fill": {"order": "rooms"}}
 
 CLASSES = {
     "errors": {"TooMany": (["made", "rows"], {})},
@@ -27,6 +34,11 @@ def arguments(called):
     return [name for name in inspect.signature(called).parameters if name != "self"]
 
 
+def defaults(called):
+    parameters = inspect.signature(called).parameters
+    return {name: told.default for name, told in parameters.items() if told.default is not told.empty}
+
+
 class Interface(unittest.TestCase):
     def test_functions(self):
         for module, functions in FUNCTIONS.items():
@@ -34,6 +46,7 @@ class Interface(unittest.TestCase):
                 function = getattr(importlib.import_module(f"cosetyard.{module}"), name)
                 self.assertTrue(inspect.isfunction(function), name)
                 self.assertEqual(arguments(function), told, name)
+                self.assertEqual(defaults(function), DEFAULTS.get(name, {}), name)
 
     def test_classes(self):
         for module, classes in CLASSES.items():

@@ -3,20 +3,9 @@ import unittest
 from cosetyard.errors import NoOrder
 from cosetyard.orders import ByLetters, Newest, Order, order_by
 from cosetyard.rooms import Rooms
-from helper import Built, Chance, long_row, state, steps_in_order
+from helper import Built, Chance, first_gap, known_ways, long_row, state
 
 NAMES = {"rooms": Order, "letters": ByLetters, "newest": Newest}
-
-
-def first_gap(name, rooms):
-    """The first gap by the words of point 16."""
-    steps = steps_in_order(rooms.letters)
-    gaps = [(room, steps.index(step)) for room in rooms.standing() for step in steps if rooms.by(room, step) is None]
-    keys = {"rooms": lambda gap: gap, "letters": lambda gap: gap[::-1], "newest": lambda gap: (-gap[0], gap[1])}
-    if not gaps:
-        return None
-    room, place = min(gaps, key=keys[name])
-    return (room, steps[place])
 
 
 class OrdersCase(unittest.TestCase):
@@ -25,7 +14,7 @@ class OrdersCase(unittest.TestCase):
             self.assertEqual(order.gap(rooms), gap)
 
     def assert_first(self, rooms):
-        self.assert_gaps(rooms, first_gap("rooms", rooms), first_gap("letters", rooms), first_gap("newest", rooms))
+        self.assert_gaps(rooms, *[first_gap(name, rooms.letters, rooms.standing(), known_ways(rooms)) for name in NAMES])
 
 
 class Gap(OrdersCase):
