@@ -74,17 +74,16 @@ def power_end(text, at):
     end = start
     while end < len(text) and text[end] in FIGURES:
         end = end + 1
-    check_figures(text[start:end])
+    figures = text[start:end]
+    if not is_number(figures):
+        raise NoWord(f"{figures!r} is no power")
     return end
 
 
-def check_figures(figures):
-    if figures == "":
-        raise NoWord("a power has no figure")
-    if len(figures) > MOST_FIGURES:
-        raise NoWord(f"the power {figures} has too many figures")
-    if figures.startswith("0") and figures != "0":
-        raise NoWord(f"the power {figures} begins with 0")
+def is_number(text):
+    if not 1 <= len(text) <= MOST_FIGURES or not all([sign in FIGURES for sign in text]):
+        return False
+    return text == "0" or not text.startswith("0")
 
 
 def power_of(written):

@@ -261,6 +261,23 @@ def long_row(many, letters=1):
     return rooms
 
 
+def in_a_row(size):
+    """Rooms in a row: the letters 1 and 2 change neighbours by turns, the letter 3 changes the last two alone."""
+    table = [[room] * 6 for room in range(size)]
+    for room in range(size - 1):
+        for place in [2 * (room % 2), 2 * (room % 2) + 1] + [4, 5] * (room == size - 2):
+            table[room][place] = room + 1
+            table[room + 1][place] = room
+    return table
+
+
+def ring_table(size):
+    """The table of one ring, in which the rooms stand by turns behind and ahead of room 0."""
+    places = [(room + 1) // 2 if room % 2 else size - room // 2 for room in range(size)]
+    numbers = {place % size: room for room, place in enumerate(places)}
+    return [[numbers[(place + 1) % size], numbers[(place - 1) % size]] for place in places]
+
+
 def ring(size):
     return [(1,) * size]
 

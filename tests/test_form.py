@@ -122,7 +122,8 @@ class Code(unittest.TestCase):
         for name, tree in trees():
             taken = {alias.name for node in ast.walk(tree) if isinstance(node, ast.ImportFrom) for alias in node.names}
             taken.update(node.name for node in ast.walk(tree) if isinstance(node, ast.ClassDef))
-            given = {node.id for node in ast.walk(tree) if isinstance(node, ast.Name) and isinstance(node.ctx, ast.Store)}
+            names = [node for node in ast.walk(tree) if isinstance(node, ast.Name)]
+            given = {node.id for node in names if isinstance(node.ctx, ast.Store)}
             given.update(node.arg for node in ast.walk(tree) if isinstance(node, ast.arg))
             self.assertEqual(given & taken, set(), name)
 

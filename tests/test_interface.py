@@ -16,6 +16,11 @@ FUNCTIONS = {
     "judge": {"judged": ["letters", "rules", "part", "paper"]},
     "turnings": {"turning": ["table", "word"], "rings": ["turned"], "times": ["turned"],
                  "parted": ["table", "one", "other"]},
+    "ways": {"least_ways": ["table"]},
+    "inner": {"inner_letters": ["table"], "inner_words": ["table"], "told_in": ["table", "room", "word"],
+              "inner_rules": ["table", "rules"]},
+    "kin": {"carries": ["rules", "table", "images"], "homes": ["letters", "rules", "table"], "onto": ["table", "home"],
+            "kin": ["one", "other", "limit"]},
 }
 
 # Arguments that may be left out, and what they are then; all others must be there.
@@ -27,6 +32,7 @@ CLASSES = {
                                       "by": ["room", "step"], "elder": ["room"], "standing": [], "paper": []})},
     "orders": {"Order": ([], {"gap": ["rooms"]}), "ByLetters": ([], {"gap": ["rooms"]}),
                "Newest": ([], {"gap": ["rooms"]})},
+    "desk": {"Desk": ([], {"say": ["row"]})},
 }
 
 

@@ -227,7 +227,8 @@ class RuleRows(JudgeCase):
 
     def test_a_path_of_another_length(self):
         for at in range(3):
-            for path in [(), (0,), (0, 0), (0, 1, 2), (0, 1, 2, 0, 0), (0, 1, 2, 0, 1, 2, 0), (0, 1, 2, 0) * 500 + (0,)]:
+            for path in [(), (0,), (0, 0), (0, 1, 2), (0, 1, 2, 0, 0), (0, 1, 2, 0, 1, 2, 0),
+                         (0, 1, 2, 0) * 500 + (0,)]:
                 self.assert_wrong(("rule", 0, path, at))
         for path in [(), (0,), (0, 0, 0), (0,) * 2001]:
             self.assert_wrong(("rule", 3, path, 0))

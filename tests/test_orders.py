@@ -14,7 +14,8 @@ class OrdersCase(unittest.TestCase):
             self.assertEqual(order.gap(rooms), gap)
 
     def assert_first(self, rooms):
-        self.assert_gaps(rooms, *[first_gap(name, rooms.letters, rooms.standing(), known_ways(rooms)) for name in NAMES])
+        known = known_ways(rooms)
+        self.assert_gaps(rooms, *[first_gap(name, rooms.letters, rooms.standing(), known) for name in NAMES])
 
 
 class Gap(OrdersCase):

@@ -6,8 +6,8 @@ import unittest
 from cosetyard.filling import fill
 from cosetyard.tables import led
 from cosetyard.turnings import parted, rings, times, turning
-from helper import (FIVE_EVEN, FOUR_BY_TURN, GROUPS, THREE_POINTS, Chance, mirrors, ring, rings_beside, some_word,
-                    steps_in_order)
+from helper import (FIVE_EVEN, FOUR_BY_TURN, GROUPS, THREE_POINTS, Chance, in_a_row, mirrors, ring, rings_beside,
+                    some_word, steps_in_order)
 
 # The first letter turns 0, 1, 2 round, the second one changes 0 and 1.
 TABLE = [[1, 2, 1, 1], [2, 0, 0, 0], [0, 1, 2, 2]]
@@ -25,16 +25,6 @@ def turned_by_rings(lengths):
         start = len(turned)
         turned.extend([start + (place + 1) % length for place in range(length)])
     return turned
-
-
-def in_a_row(size):
-    """Rooms in a row: the letters 1 and 2 change neighbours by turns, the letter 3 changes the last two alone."""
-    table = [[room] * 6 for room in range(size)]
-    for room in range(size - 1):
-        for place in [2 * (room % 2), 2 * (room % 2) + 1] + [4, 5] * (room == size - 2):
-            table[room][place] = room + 1
-            table[room + 1][place] = room
-    return table
 
 
 class Turning(unittest.TestCase):
